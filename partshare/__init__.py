@@ -1,0 +1,1 @@
+"""Partshare: a number parted into shares, some of which may be wrong."""
