@@ -28,6 +28,13 @@ def is_rest(p, thing):
     return is_whole(thing) and 0 <= thing < p
 
 
+def are_rests(p, thing, many):
+    """Whether the thing, whatever it is, is a list of so many rests of the prime."""
+    if not isinstance(thing, list) or len(thing) != many:
+        return False
+    return all(is_rest(p, each) for each in thing)
+
+
 def check_prime(p):
     """Refuse what is no prime. No message shows what was handed in: showing it may itself fail."""
     if not is_prime(p):

@@ -20,6 +20,9 @@ INTERFACE = {
     ],
     "rests.py": ["is_prime", "turned"],
     "rows.py": ["worth", "added", "times", "parted"],
+    "tables.py": ["solved"],
+    "parting.py": ["shares_of", "through", "number_of", "ways", "nth"],
+    "anew.py": ["weights", "gathered", "refreshed"],
 }
 
 PARAMETERS = {
@@ -29,6 +32,15 @@ PARAMETERS = {
     "added": ["p", "one", "other"],
     "times": ["p", "one", "other"],
     "parted": ["p", "row", "other"],
+    "solved": ["p", "lines", "wanted"],
+    "shares_of": ["p", "row", "places"],
+    "through": ["p", "shares"],
+    "number_of": ["p", "need", "shares"],
+    "ways": ["p", "need", "shares", "number"],
+    "nth": ["p", "need", "shares", "number", "which"],
+    "weights": ["p", "places"],
+    "gathered": ["p", "places", "parts"],
+    "refreshed": ["p", "shares", "row"],
 }
 
 STATEMENTS = (

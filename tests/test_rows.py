@@ -1,23 +1,14 @@
 """Promises [3] and [4]: rows, and promise [1] for them."""
 
 import copy
-import itertools
 import random
 import unittest
 
-from helpers import assert_refused, assert_whole, no_primes, no_rests, no_rows
+from helpers import (
+    assert_refused, assert_rests, assert_whole, no_primes, no_rests, no_rows, plain_worth, rows_of, some_row,
+)
 
 from partshare.rows import added, parted, times, worth
-
-
-def plain_worth(p, row, at):
-    """The worth by the words of the document: each thing times at as often as it has things ahead of it."""
-    total = 0
-    for place, thing in enumerate(row):
-        for _ in range(place):
-            thing = thing * at
-        total = total + thing
-    return total % p
 
 
 def plain_times(p, one, other):
@@ -31,19 +22,9 @@ def plain_times(p, one, other):
     return told
 
 
-def rows_of(p, length):
-    """Every row of this length."""
-    return [list(each) for each in itertools.product(range(p), repeat=length)]
-
-
 def rows_up_to(p, length):
     """Every row of at most this length."""
     return [row for many in range(length + 1) for row in rows_of(p, many)]
-
-
-def some_row(chance, p, length):
-    """A row of this length, with noughts more often than not by chance alone."""
-    return [chance.choice([0, chance.randrange(p), chance.randrange(p), p - 1]) for _ in range(length)]
 
 
 def without_end_noughts(row):
@@ -56,10 +37,7 @@ def without_end_noughts(row):
 
 class RowCase(unittest.TestCase):
     def assert_row(self, p, row, length):
-        self.assertIs(type(row), list)
-        assert_whole(self, row)
-        self.assertTrue(all(0 <= each < p for each in row), row)
-        self.assertEqual(len(row), length)
+        assert_rests(self, p, row, length)
 
     def assert_two_rows_refused(self, function, good):
         """What is no row is refused first or second; good is a row that does in both places."""
