@@ -1,7 +1,7 @@
 """Shares given anew, without the number being told."""
 
 from partshare.errors import BadRow
-from partshare.parting import check_places, check_shares
+from partshare.parting import MOST_NEED, check_places, check_shares
 from partshare.rests import are_rests, check_prime, turned
 from partshare.rows import check_row, worth
 
@@ -44,3 +44,25 @@ def refreshed(p, shares, row):
     if worth(p, row, 0) != 0:
         raise BadRow("a row by which shares are refreshed has a worth of 0 at 0")
     return [(place, (thing + worth(p, row, place)) % p) for place, thing in shares]
+
+
+def are_holders_rows(p, shares, thing):
+    """Whether the thing, whatever it is, is a list of a row for each share, beginning with its worth, all as long."""
+    if not isinstance(thing, list) or len(thing) != len(shares):
+        return False
+    if not all(isinstance(row, list) and 1 <= len(row) <= MOST_NEED for row in thing):
+        return False
+    if not all(are_rests(p, row, len(thing[0])) for row in thing):
+        return False
+    return all(row[0] == share[1] for row, share in zip(thing, shares))
+
+
+def check_holders_rows(p, shares, thing):
+    """Refuse what are no rows by which the holders of the shares deal them anew."""
+    if not are_holders_rows(p, shares, thing):
+        raise BadRow("this is no list of a row for each share, all as long, 1 to 20, beginning with its worth")
+
+
+def dealt(p, places, rows, new_places):
+    """The shares at the new places, gathered there of the rows: one for each of the old places."""
+    return [(place, gathered(p, places, [worth(p, row, place) for row in rows])) for place in new_places]

@@ -13,6 +13,11 @@ def is_place(p, thing):
     return is_rest(p, thing) and thing != 0
 
 
+def is_need(thing):
+    """Whether the thing, whatever it is, is a need: a whole number from 1 to 20."""
+    return is_whole(thing) and 1 <= thing <= MOST_NEED
+
+
 def is_share(p, thing):
     """Whether the thing, whatever it is, is a share: a tuple of a place and a worth."""
     return isinstance(thing, tuple) and len(thing) == 2 and is_place(p, thing[0]) and is_rest(p, thing[1])
@@ -46,8 +51,14 @@ def check_shares(p, thing):
 
 def check_need(thing):
     """Refuse what is no need."""
-    if not is_whole(thing) or thing < 1 or thing > MOST_NEED:
+    if not is_need(thing):
         raise BadNeed("the need is no whole number from 1 to 20")
+
+
+def check_enough(need, shares):
+    """Refuse shares that are fewer than the need."""
+    if len(shares) < need:
+        raise TooFew("there are fewer shares than the need")
 
 
 def shares_of(p, row, places):
@@ -83,8 +94,7 @@ def number_of(p, need, shares):
     check_prime(p)
     check_need(need)
     check_shares(p, shares)
-    if len(shares) < need:
-        raise TooFew("there are fewer shares than the need")
+    check_enough(need, shares)
     row = through(p, shares[:need])
     if not lies(p, row, shares[need:]):
         raise Unlike("the shares do not lie on one row of as many rests as the need")

@@ -115,6 +115,14 @@ def assert_refused(case, name, function, *handed):
         case.fail("nothing was refused; " + name + " should have been raised")
 
 
+def told_by(function, *handed):
+    """What the call tells, or the name of the error by which it refuses."""
+    try:
+        return "told", function(*handed)
+    except errors.ShareError as refused:
+        return "refused", type(refused).__name__
+
+
 def assert_no_prime_first(case, function, *good):
     """What is no prime is refused ahead of all; good is what is handed in behind it, and does."""
     for thing in no_primes():
@@ -215,3 +223,10 @@ def some_places(chance, p, many):
 def plain_shares(p, row, places):
     """The row's shares at the places, by the words of the document."""
     return [(place, plain_worth(p, row, place)) for place in places]
+
+
+def with_wrong(chance, p, shares, wrong_places):
+    """The shares, with another worth at each of the wrong places."""
+    return [
+        (place, (thing + chance.randrange(1, p)) % p if place in wrong_places else thing) for place, thing in shares
+    ]
